@@ -247,12 +247,16 @@ func entriesFit(m Msg) bool {
 	if len(m.Entries) > MaxBatch || m.LogIndex+len(m.Entries) > MaxLog {
 		return false
 	}
-	term := m.LogTerm
-	for _, e := range m.Entries {
-		if !entryFits(e) || !within(e.Term, term, m.Term) {
+	return entriesRise(m.Entries, m.LogTerm, m.Term)
+}
+
+// entriesRise tells whether all are well-formed and their Terms, in least..most, never fall.
+func entriesRise(list []Entry, least, most int) bool {
+	for _, e := range list {
+		if !entryFits(e) || !within(e.Term, least, most) {
 			return false
 		}
-		term = e.Term
+		least = e.Term
 	}
 	return true
 }
