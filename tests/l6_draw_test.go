@@ -20,7 +20,7 @@ func drawSetup(random *rand.Rand) impl.Setup {
 
 // drawEvents gives the events of one run.
 func drawEvents(random *rand.Rand, su impl.Setup, id int, draws []int, count int) []impl.ServerEvent {
-	m := newModelServer(su, id, draws)
+	m := newModelServer(su, id, &modelDraws{draws: draws})
 	var events []impl.ServerEvent
 	for range count {
 		ev := drawEvent(random, m)

@@ -170,6 +170,12 @@ func TestRunEndsItsFeed(t *testing.T) {
 		impl.RunServer(setupOf(3, 4, 100), 1, make([]int, n*20), []impl.ServerEvent{evTick, evCrash, evStart})
 		impl.RunServer(setupOf(3, 4, 100), 9, make([]int, n), nil)
 	}
+	wantEnded(t, before)
+}
+
+// wantEnded: there are no more goroutines than before. One that has said that it is through may need a moment to be gone.
+func wantEnded(t *testing.T, before int) {
+	t.Helper()
 	for range 100 {
 		if runtime.NumGoroutine() <= before {
 			return

@@ -6,12 +6,19 @@ import (
 	"loop.example/s01586/impl"
 )
 
+// modelDraws is the feed of draws of one server or of a whole cluster.
+type modelDraws struct {
+	draws []int
+	drawn int
+}
+
 // modelServer is the document's 6.2 and 6.3 told once more, by what the layers below answer.
 type modelServer struct {
 	su      impl.Setup
 	id      int
-	draws   []int
-	drawn   int
+	feed    *modelDraws
+	calm    bool // within a calm round the draw is slot, and the feed is left alone
+	slot    int
 	up      bool
 	tearing bool
 	keep    int
@@ -22,34 +29,44 @@ type modelServer struct {
 	sends   []impl.Send
 }
 
-func newModelServer(su impl.Setup, id int, draws []int) *modelServer {
-	m := &modelServer{su: su, id: id, draws: draws, disk: impl.Disk{Cap: su.Disk}}
+func newModelServer(su impl.Setup, id int, feed *modelDraws) *modelServer {
+	m := &modelServer{su: su, id: id, feed: feed, disk: impl.Disk{Cap: su.Disk}}
 	m.start()
 	return m
 }
 
 // modelRun takes well-formed arguments.
 func modelRun(su impl.Setup, id int, draws []int, events []impl.ServerEvent) impl.ServerTrace {
-	m := newModelServer(su, id, draws)
+	feed := &modelDraws{draws: draws}
+	m := newModelServer(su, id, feed)
 	var outs []impl.ServerOut
 	for _, ev := range events {
 		outs = append(outs, m.happen(ev))
 	}
-	return impl.ServerTrace{Drawn: m.drawn, Outs: outs, View: m.view()}
+	return impl.ServerTrace{Drawn: feed.drawn, Outs: outs, View: m.view()}
 }
 
 func (m *modelServer) draw() int {
-	if m.drawn < len(m.draws) {
-		return m.draws[m.drawn]
+	if m.calm {
+		return m.slot
+	}
+	if f := m.feed; f.drawn < len(f.draws) {
+		return f.draws[f.drawn]
 	}
 	return 0
+}
+
+func (m *modelServer) use(n int) {
+	if !m.calm {
+		m.feed.drawn += n
+	}
 }
 
 func (m *modelServer) start() {
 	r := impl.Restart(m.disk)
 	m.disk = r.Disk
 	m.node = impl.NewNode(m.id, m.su.Servers, m.su.Elect, m.su.Beat, r.Stable, m.draw())
-	m.drawn++
+	m.use(1)
 	m.applied, m.table, m.up, m.tearing = 0, impl.Table{}, true, false
 }
 
@@ -104,7 +121,7 @@ func (m *modelServer) step(in impl.Input) int {
 	if len(records) > 0 && written.Code == 3 {
 		return 3
 	}
-	m.drawn += a.Drew
+	m.use(a.Drew)
 	if len(records) > 0 {
 		if m.tearing {
 			m.disk = impl.DiskCrash(written.Disk, m.keep)
