@@ -2,6 +2,7 @@ package tests
 
 import (
 	"slices"
+	"strconv"
 	"testing"
 
 	"loop.example/s01586/impl"
@@ -146,6 +147,21 @@ func TestCallsRedirected(t *testing.T) {
 				t.Errorf("a redirection changed %s", told(trace.View))
 			}
 		}
+	}
+}
+
+// What an event brings holds what went out in that very event: not what went out ahead of it, and not nothing.
+func TestSendsAreOfTheirEvent(t *testing.T) {
+	su := setupOf(3, 4, 1000)
+	first, second := getOf(1, 1, "k"), putOf(2, 5, "k", "v")
+	trace := run(t, su, 1, nil, evStart, evCall(first), evStart, evCall(second), evTick)
+	wants := []impl.ServerOut{{Code: 1}, {Sends: []impl.Send{redirectOf(1, 1, 0)}}, {Code: 1}, {Sends: []impl.Send{redirectOf(2, 5, 0)}}, {}}
+	for i, want := range wants {
+		wantOut(t, "event "+strconv.Itoa(i), trace.Outs[i], want)
+	}
+	report := impl.RunCluster(impl.Script{Setup: su, Steps: []impl.Step{{Kind: impl.StAsk, A: 1, Cmd: getOf(0, 0, "k")}, {Kind: impl.StDeliver}}})
+	if report.Code != 0 || report.Packets != 1 {
+		t.Errorf("a call that is redirected leaves %d packets: %s", report.Packets, told(report))
 	}
 }
 

@@ -166,6 +166,17 @@ func TestP6Take(t *testing.T) {
 	}
 }
 
+// The bag of the answer is the one behind the taking, not the one ahead of it.
+func TestP6TakeTheOnlyPacket(t *testing.T) {
+	b := impl.Bag{Next: 2, Packets: []impl.Packet{{Id: 1, From: 1, To: 2, Bytes: []byte{7}}}}
+	for keep, want := range []impl.Bag{{Next: 2}, b} {
+		k := impl.BagTake(b, 0, keep)
+		if k.Code != 0 || k.Lost != 0 || !samePacket(k.Packet, b.Packets[0]) || !sameBag(k.Bag, want) {
+			t.Errorf("keep %d: %+v", keep, k)
+		}
+	}
+}
+
 func illBags() []impl.Bag {
 	one := func(p impl.Packet) impl.Bag { return impl.Bag{Next: 9, Packets: []impl.Packet{p}} }
 	walled := func(ids ...int) impl.Bag { return impl.Bag{Next: 9, Walls: ids} }
